@@ -1,0 +1,162 @@
+"""Halls and other values that several tests use."""
+
+import copy
+import random
+
+from fillerfed.errors import Dead, NoMachine, Nothing, Wrong
+
+NAMES = ("belt", "cap", "down", "fill", "filler", "machine", "next", "up", "wash", "x")
+
+CAP = ("cap", 2, ((2, 1),))
+FILL = ("fill", 4, ())
+WASH = ("wash", 2, ((3, 0), (1, 1)))
+HALL = ((CAP, FILL, WASH), (("wash", "fill", 1, 1), ("fill", "cap", 1, 0)), "fill")
+LONE = ((FILL,), (), "fill")
+DEAD = ((CAP, FILL), (("fill", "cap", 2, 0), ("cap", "fill", 1, 0)), "fill")
+
+# Wrong wherever a part of a MACHINE, BELT, HALL, ARC or of STOPS stands.
+NEVER_RIGHT = (None, True, False, -1, 1.0, "", "Cap", "a1", "a b", "cap\n", "\n", "a" * 13, "\u00e4", b"cap", [], {}, [1], {1: 2},
+               (None,), ([],), 10 ** 40 * -1)
+
+
+class Odd:
+    """An object of a strange class, which is equal to everything."""
+
+    def __eq__(self, other):
+        return True
+
+    __hash__ = None
+
+
+def deep_value():
+    """Lists, tuples and dicts in one another, twenty deep."""
+    thing = 0
+    for depth in range(20):
+        thing = ([thing], (thing,), {depth: thing})[depth % 3]
+    return thing
+
+
+def any_values():
+    """Values of all kinds, new ones at each call."""
+    return [
+        None, True, False, 0, 1, -1, 7, 10 ** 40, -10 ** 40, 1.5, float("nan"), "", " ", "a", "cap", "fill", "next",
+        "a" * 12, "a" * 13, "A", "a\n", "\n", "#", "~" * 3000, b"", b"a", [], (), {}, set(), frozenset(), [None], (None,),
+        (1,), (1, 2), [1, 2], (2, 4), (True, 1), (1, True), (0, 0), (1, 0), (1, -2), (None, 1), ("a", 1), ("a", 1, ()),
+        ["a", 1, ()], ("a", "b", 1, 1), ("a", "a", 1, 1), (("a", 1, ()),), ((("a", 1, ()),), (), "a"), (1, 2, 3), (1, 2, 3, 4),
+        ([], [], []), ({}, {}, {}), ([], {}), ((), (), ()), ((), (), ""), ((), (), []), ("next", []), ("next", {}), ("down", []),
+        ("up", None), ("next", "fill"), ("down", 0), ("up", 0), (("down", 0),), [("down", 0)], {"a": 1}, {("a", 0, 0): 1},
+        {None: None}, {("fill", 0, 0): 1}, {("cap", 0, 0): 1}, {"cap": 1, "fill": 2, "wash": 3}, {1: 1, "a": 2, (1,): 3},
+        deep_value(), tuple(range(3000)), list(range(3000)), {at: at for at in range(3000)}, object(), Odd(), (Odd(), Odd()),
+        (Odd(), 0), (Odd(), 1, ()), ((), (), Odd()), (Odd(), Odd(), Odd(), Odd()), len, Wrong, Wrong(0), Dead(("down", 0)),
+        NoMachine("a"), Nothing(), HALL, LONE, DEAD, list(HALL), HALL[0], HALL[1], CAP, range(3), (x for x in ()),
+    ]
+
+
+def frozen(thing):
+    """What a value looks like, kinds and orders included."""
+    if type(thing) in (list, tuple):
+        return (type(thing).__name__, [frozen(part) for part in thing])
+    if type(thing) is dict:
+        return ("dict", [(frozen(key), frozen(worth)) for key, worth in thing.items()])
+    return (type(thing).__name__, repr(thing))
+
+
+def exchanged(thing, others=NEVER_RIGHT):
+    """All values that come from one by exchanging one part, or by a list in the place of a tuple."""
+    found = list(others)
+    if type(thing) is tuple:
+        found.append(list(thing))
+        for at, part in enumerate(thing):
+            found.extend(thing[:at] + (other,) + thing[at + 1:] for other in exchanged(part, others))
+    return found
+
+
+def some_name(dice, names):
+    """A name that is none of these, often one that is a word of the texts, too."""
+    while True:
+        name = dice.choice(NAMES) if dice.random() < 0.5 else "".join(dice.choice("abz") for _ in range(dice.randint(1, 4)))
+        if name not in names:
+            return name
+
+
+def some_belt(dice, start, end, most):
+    """A BELT between two machines, whichever way."""
+    room = dice.randint(1, most)
+    first = dice.choice((0, room, dice.randint(0, room)))
+    if dice.random() < 0.5:
+        start, end = end, start
+    return (start, end, room, first)
+
+
+def some_purses(dice):
+    """From none to three PURSES."""
+    return tuple((dice.randint(1, 5), dice.randint(0, 3)) for _ in range(dice.choice((0, 1, 1, 2, 3))))
+
+
+def some_hall(dice, many, extra=3, most=3):
+    """A HALL of so many machines, LIVE or not, with up to so many BELTS beyond those that join it."""
+    names = []
+    belts = []
+    for at in range(many):
+        name = some_name(dice, names)
+        if at:
+            belts.append(some_belt(dice, name, dice.choice(names), most))
+        names.append(name)
+    for _ in range(dice.randint(0, extra) if many > 1 else 0):
+        one, other = dice.sample(names, 2)
+        belts.append(some_belt(dice, one, other, most))
+    dice.shuffle(belts)
+    filler = dice.choice(names)
+    machines = [(name, dice.randint(1, 6), () if name == filler else some_purses(dice)) for name in sorted(names)]
+    return (tuple(machines), tuple(belts), filler)
+
+
+def some_halls(seed, rounds=40):
+    """HALLS of one to eight machines, LIVE or not, the same at each call."""
+    dice = random.Random(seed)
+    return [some_hall(dice, 1 + at % 8) for at in range(rounds)]
+
+
+def some_stops(dice, hall, pieces=12):
+    """STOPS of a HALL, LET or not, whose keys stand in any order."""
+    places = [(name, index) for name, _, purses in hall[0] for index in range(len(purses))]
+    stops = {}
+    for _ in range(dice.randint(0, 8) if places else 0):
+        name, index = dice.choice(places)
+        stops[(name, dice.randrange(pieces), index)] = dice.randint(1, 7)
+    return stops
+
+
+def same_after(case, call, *given):
+    """What a call returns, which leaves its arguments as they were and returns the same when asked twice."""
+    copies = copy.deepcopy(given)
+    before = frozen(given)
+    first = call(*given)
+    case.assertEqual(frozen(given), before)
+    case.assertEqual(frozen(call(*copies)), frozen(first))
+    case.assertEqual(frozen(call(*given)), frozen(first))
+    return first
+
+
+def check_new(case, call, *given):
+    """A list or dict that is returned is new each time, and no argument."""
+    first = call(*given)
+    second = call(*given)
+    case.assertIn(type(first), (list, dict))
+    case.assertIsNot(first, second)
+    for thing in given:
+        case.assertIsNot(first, thing)
+    kept = frozen(second)
+    first.clear()
+    case.assertEqual(frozen(second), kept)
+    case.assertEqual(frozen(call(*given)), kept)
+
+
+def raised(case, kind, call, *given):
+    """The error that a call raises, which is of just this class; its arguments stay as they were."""
+    before = frozen(given)
+    with case.assertRaises(kind) as held:
+        call(*given)
+    case.assertIs(type(held.exception), kind)
+    case.assertEqual(frozen(given), before)
+    return held.exception

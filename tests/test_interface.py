@@ -1,0 +1,50 @@
+"""What the document's interface lists stands in the file under which it is listed, with these arguments."""
+
+import ast
+import unittest
+from pathlib import Path
+
+PACKAGE = Path(__file__).parent.parent / "fillerfed"
+
+# A row for each file; a class has the arguments of its constructor.
+INTERFACE = """
+errors HallError Dead(ring) NoBelt(index) NoCommand() NoMachine(name) NoText(line) Nothing() TooMany(most) Wrong(place)
+fractions reduced(n,d) added(one,other) lessened(one,other) times(one,other) compared(one,other) fraction_text(one)
+forms is_integer(thing) is_count(thing) is_name(thing) is_fraction(thing) is_purse(thing) is_machine(thing) is_belt(thing)
+forms is_joined(names,belts,name) is_hall(thing) is_stops(hall,thing) is_arc(hall,thing)
+halltexts show_hall(hall) read_hall(text)
+"""
+
+
+def listed():
+    """The tuples (file, name, arguments) of the interface; arguments are None for a class without a constructor."""
+    for row in INTERFACE.strip().split("\n"):
+        file, *words = row.split(" ")
+        for word in words:
+            name, bracket, arguments = word.rstrip(")").partition("(")
+            yield file, name, [part for part in arguments.split(",") if part] if bracket else None
+
+
+def arguments_of(node):
+    """The names of the arguments of a function, or of a class's constructor, without self."""
+    if isinstance(node, ast.ClassDef):
+        makers = [part for part in node.body if isinstance(part, ast.FunctionDef) and part.name == "__init__"]
+        return [argument.arg for argument in makers[0].args.args[1:]] if makers else None
+    return [argument.arg for argument in node.args.args]
+
+
+class InterfaceTest(unittest.TestCase):
+    def test_each_name_is_defined_in_its_file(self):
+        for file, name, arguments in listed():
+            with self.subTest(file=file, name=name):
+                nodes = ast.parse((PACKAGE / (file + ".py")).read_text()).body
+                found = [node for node in nodes if isinstance(node, (ast.FunctionDef, ast.ClassDef)) and node.name == name]
+                self.assertEqual(len(found), 1)
+                self.assertEqual(arguments_of(found[0]), arguments)
+
+    def test_the_first_file_is_empty(self):
+        self.assertEqual((PACKAGE / "__init__.py").read_bytes(), b"")
+
+
+if __name__ == "__main__":
+    unittest.main()

@@ -1,0 +1,108 @@
+"""Those rules of the language of the package that a look at its files can tell."""
+
+import ast
+import builtins
+import re
+import unittest
+from pathlib import Path
+
+PACKAGE = Path(__file__).parent.parent / "fillerfed"
+FILES = sorted(PACKAGE.glob("*.py"))
+
+LIBRARY = {"heapq": {"heappush", "heappop", "heapify", "heapreplace", "heappushpop"},
+           "math": {"gcd", "lcm", "isqrt", "comb", "perm", "factorial"},
+           "itertools": {"product", "combinations", "permutations", "chain", "accumulate", "pairwise", "islice", "zip_longest"},
+           "collections": {"defaultdict", "deque"}}
+BUILTINS = set("""len range enumerate zip min max sum abs sorted reversed int str bool list tuple dict set isinstance ord repr any all divmod
+    ValueError super type map iter next""".split())
+METHODS = set("""append clear copy count endswith extend find get index insert isalnum isalpha isdigit islower isspace isupper items join keys
+    ljust lower lstrip partition pop remove replace reverse rfind rjust rpartition rsplit rstrip setdefault split splitlines startswith strip
+    update upper values zfill bit_length add discard""".split())
+BARRED_WORDS = re.compile(r"\b(typing|enum|Enum|dataclass|namedtuple|register|mro|open|input|law|eval|exec|globals|locals|vars)\b")
+PLAIN_NODES = (ast.FunctionDef, ast.ClassDef, ast.ImportFrom, ast.Assign)
+
+
+class LanguageTest(unittest.TestCase):
+    def each(self):
+        """Each file's name, lines and tree."""
+        texts = [(path.name, path.read_text(encoding="utf-8")) for path in FILES]
+        return [(name, text.split("\n"), ast.parse(text)) for name, text in texts]
+
+    def test_the_folder_holds_plain_files_alone(self):
+        for path in PACKAGE.iterdir():
+            if path.name != "__pycache__":
+                self.assertRegex(path.name, r"^(__init__|[a-z][a-z0-9_]*)\.py$")
+        self.assertFalse(list(PACKAGE.glob("test*")))
+
+    def test_sizes_and_characters(self):
+        for _, lines, tree in self.each():
+            self.assertLess(len(lines), 400)
+            for line in lines:
+                self.assertLessEqual(len(line), 120, line)
+                self.assertRegex(line, r"^[ -~]*$")
+                self.assertEqual(line, line.rstrip())
+            for node in ast.walk(tree):
+                if isinstance(node, ast.FunctionDef):
+                    self.assertLessEqual(node.end_lineno - node.lineno + 1, 40, node.name)
+
+    def test_module_level_and_imports(self):
+        for name, _, tree in self.each():
+            for at, node in enumerate(tree.body):
+                docstring = at == 0 and isinstance(node, ast.Expr) and isinstance(node.value, ast.Constant)
+                self.assertTrue(docstring or isinstance(node, PLAIN_NODES), ast.unparse(node))
+                if isinstance(node, ast.ImportFrom):
+                    self.check_import(name, node)
+
+    def check_import(self, name, node):
+        names = {part.name for part in node.names}
+        self.assertEqual([part.asname for part in node.names], [None] * len(node.names))
+        self.assertEqual(node.level, 0)
+        if node.module in LIBRARY:
+            self.assertLessEqual(names, LIBRARY[node.module])
+            return
+        self.assertRegex(node.module, r"^fillerfed\.[a-z]+$")
+        source = ast.parse((PACKAGE / (node.module.split(".")[1] + ".py")).read_text())
+        defined = {part.name for part in source.body if isinstance(part, (ast.FunctionDef, ast.ClassDef))}
+        defined |= {part.targets[0].id for part in source.body if isinstance(part, ast.Assign)}
+        self.assertLessEqual(names, defined, name)
+
+    def test_no_name_of_a_builtin_and_no_shadowed_import(self):
+        for _, _, tree in self.each():
+            # An interactive Python, and doctest too, puts an underscore among the builtins.
+            taken = set(dir(builtins)) - {"_"}
+            for node in tree.body:
+                if isinstance(node, ast.ImportFrom):
+                    taken |= {part.name for part in node.names}
+            for node in ast.walk(tree):
+                if isinstance(node, ast.Name) and not isinstance(node.ctx, ast.Load):
+                    self.assertNotIn(node.id, taken)
+                if isinstance(node, ast.arg) or isinstance(node, ast.FunctionDef) and node in tree.body:
+                    self.assertNotIn(node.arg if isinstance(node, ast.arg) else node.name, taken)
+
+    def test_builtins_methods_and_words(self):
+        for _, _, tree in self.each():
+            attributes = {node.attr for node in ast.walk(tree) if isinstance(node, ast.Attribute) and isinstance(node.ctx, ast.Store)}
+            for node in ast.walk(tree):
+                if isinstance(node, ast.Name) and isinstance(node.ctx, ast.Load) and node.id in dir(builtins):
+                    self.assertIn(node.id, BUILTINS)
+                if isinstance(node, ast.Attribute) and node.attr != "__init__":
+                    self.assertIn(node.attr, METHODS | attributes)
+                if isinstance(node, (ast.Name, ast.arg, ast.FunctionDef, ast.ClassDef)):
+                    word = getattr(node, "id", None) or getattr(node, "arg", None) or getattr(node, "name", None)
+                    self.assertNotRegex(word, BARRED_WORDS)
+
+    def test_statements_and_expressions(self):
+        barred = (ast.Global, ast.AsyncFunctionDef, ast.Await, ast.GeneratorExp, ast.Div, ast.Yield, ast.YieldFrom)
+        for name, _, tree in self.each():
+            for node in ast.walk(tree):
+                self.assertNotIsInstance(node, barred, (name, getattr(node, "lineno", 0)))
+                if isinstance(node, ast.Constant):
+                    self.assertNotIsInstance(node.value, (float, complex))
+                if isinstance(node, ast.Constant) and isinstance(node.value, str):
+                    self.assertNotIn(chr(37), node.value)
+                if isinstance(node, ast.Compare) and any(isinstance(sign, (ast.Is, ast.IsNot)) for sign in node.ops):
+                    self.assertRegex(ast.unparse(node), r"is (not )?(None|True|False|int|str|bool|list|tuple|dict)$")
+
+
+if __name__ == "__main__":
+    unittest.main()
