@@ -6,7 +6,7 @@ import unittest
 
 from fillerfed.forms import (is_arc, is_belt, is_count, is_fraction, is_hall, is_integer, is_joined, is_machine, is_name, is_purse,
                              is_stops)
-from samples import CAP, DEAD, FILL, HALL, LONE, WASH, any_values, exchanged, frozen, some_halls, some_stops
+from samples import CAP, DEAD, FILL, HALL, LONE, WASH, Odd, any_values, exchanged, frozen, some_halls, some_stops
 
 BELTS = HALL[1]
 GREAT = 10 ** 40
@@ -187,6 +187,7 @@ class ArcsTest(Forms):
         self.wrong(call, ("next", 0), ("down", "cap"), ("up", "0"), ("down", True), ("up", False), ("down", 0.0), ("down", None), ("next", None),
                    ("next", ["cap"]), ("next", ("cap",)), ("down", [0]), ("over", 0), ("Next", "cap"), ("", 0), (0, "down"), (None, 0),
                    (("down",), 0), ["down", 0], ("down",), ("down", 0, 0), (), "down", None, {"down": 0}, (("down", 0),), ("next", {}))
+        self.wrong(call, (Odd(), 0), (Odd(), "cap"), ("next", Odd()), ("down", Odd()), Odd())
         for arc in (("next", "cap"), ("down", 0), ("up", 1)):
             self.wrong(call, *exchanged(arc))
 

@@ -131,6 +131,8 @@ class ReadHallTest(unittest.TestCase):
         self.check_line("machine a 1\nfiller a\nfiller a", 2)
         self.check_line("filler a\nfiller b\nmachine a 1", 1)
         self.check_line("filler x\nfiller x", 1)
+        self.check_line("filler a\nmachine a 1\n\nmachine b 1\nbelt a b 1 0\nfiller a\nfiller a", 5)
+        self.check_line("machine a 1\nfiller a\nmachine b 1\nbelt a b 1 0\nmachine a 1", 4)
         self.assertEqual(read_hall("machine a 1\nmachine b 1\nbelt a b 1 0\nbelt a b 1 0\nfiller a")[1], (("a", "b", 1, 0),) * 2)
 
     def test_names_that_are_told_nowhere(self):

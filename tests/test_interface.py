@@ -13,6 +13,14 @@ fractions reduced(n,d) added(one,other) lessened(one,other) times(one,other) com
 forms is_integer(thing) is_count(thing) is_name(thing) is_fraction(thing) is_purse(thing) is_machine(thing) is_belt(thing)
 forms is_joined(names,belts,name) is_hall(thing) is_stops(hall,thing) is_arc(hall,thing)
 halltexts show_hall(hall) read_hall(text)
+stoptexts show_stops(stops) way_text(way) read_stops(hall,text) read_way(hall,text)
+halls names_of(hall) machine_of(hall,name) purses_of(hall,name) purse_places(hall) belts_to(hall,name) belts_from(hall,name)
+halls neighbours(hall,name) time_of(hall,name) pace_of(hall) with_time(hall,name,time) with_purses(hall,name,purses)
+halls with_belt(hall,index,room,first)
+arcs arcs_of(hall) arcs_from(hall,name) arcs_to(hall,name) least_arcs(hall,one,other) start_of(hall,arc) end_of(hall,arc)
+arcs growth_of(hall,arc) least_growth(hall,one,other) does_end(arc)
+rings dead_ring(hall) is_live(hall) is_dead_ring(hall,thing) is_rise(hall,thing) rise(hall)
+ticks first_moment(hall,stops,many) next_moment(hall,stops,many,moment) tick_begins(hall,stops,many)
 """
 
 
