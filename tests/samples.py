@@ -4,6 +4,7 @@ import copy
 import random
 
 from fillerfed.errors import Dead, NoMachine, Nothing, Wrong
+from fillerfed.rings import is_live
 
 NAMES = ("belt", "cap", "down", "fill", "filler", "machine", "next", "up", "wash", "x")
 
@@ -125,6 +126,122 @@ def some_stops(dice, hall, pieces=12):
         name, index = dice.choice(places)
         stops[(name, dice.randrange(pieces), index)] = dice.randint(1, 7)
     return stops
+
+
+def live_halls(seed, rounds, most_machines=8):
+    """LIVE ones of some HALLS, with STOPS of each, LET or not."""
+    dice = random.Random(seed)
+    drawn = [some_hall(dice, 1 + at % most_machines) for at in range(rounds)]
+    return [(hall, some_stops(dice, hall)) for hall in drawn if is_live(hall)]
+
+
+def let_stops(dice, hall, pieces=12):
+    """STOPS of a HALL that are LET, often all that a PURSE HOLDS, whose keys stand in any order."""
+    stops = {}
+    for name, _, purses in hall[0]:
+        for index, (size, back) in enumerate(purses):
+            content = size
+            for piece in range(pieces):
+                taken = dice.choice((0, 0, content, dice.randint(0, content)))
+                if taken:
+                    stops[(name, piece, index)] = taken
+                content = min(size, content - taken + back)
+    keys = list(stops)
+    dice.shuffle(keys)
+    return {key: stops[key] for key in keys}
+
+
+def own_contents(purse, taken, many):
+    """The tuple of what a PURSE HOLDS at each of many pieces, by the words of the definition."""
+    size, back = purse
+    row = [size]
+    for piece in range(many):
+        row.append(min(size, row[-1] - taken.get(piece, 0) + back))
+    return tuple(row[:many])
+
+
+def some_taken(dice, purse, pieces, let):
+    """A TAKEN at pieces below a number, in any order; LET or not, if it need not be."""
+    taken = {}
+    for piece in range(pieces):
+        content = max(0, own_contents(purse, taken, pieces)[piece])
+        ticks = dice.choice((0, 0, content, dice.randint(0, content)))
+        if not let and dice.random() < 0.2:
+            ticks += 1
+        if ticks:
+            taken[piece] = ticks
+    keys = list(taken)
+    dice.shuffle(keys)
+    return {key: taken[key] for key in keys}
+
+
+def leads(hall):
+    """The rows (arc, start, end, growth) of a HALL, in the order of arcs_of."""
+    rows = [(("next", name), name, name, 1) for name, _, _ in hall[0]]
+    for index, (start, end, room, first) in enumerate(hall[1]):
+        rows.append((("down", index), start, end, first))
+        rows.append((("up", index), end, start, room - first))
+    return rows
+
+
+def drawn_way(dice, hall, many, begin=None):
+    """A WAY of so many ARCS, drawn one by one."""
+    here = begin = begin or dice.choice(hall[0])[0]
+    arcs = []
+    for _ in range(many):
+        arc, _, here, _ = dice.choice([row for row in leads(hall) if row[1] == here])
+        arcs.append(arc)
+    return (begin, tuple(arcs))
+
+
+def drawn_walks(dice, hall, rounds, most=40):
+    """Some WALKS, each drawn ARC by ARC till it comes to the FILLER, if it does soon enough."""
+    found = []
+    for _ in range(rounds):
+        begin = here = dice.choice(hall[0])[0]
+        arcs = []
+        while len(arcs) < most and (not arcs or here != hall[2]):
+            arc, _, here, _ = dice.choice([row for row in leads(hall) if row[1] == here])
+            arcs.append(arc)
+        if here == hall[2]:
+            found.append((begin, tuple(arcs)))
+    return found
+
+
+def time_at(hall, stops, name, piece):
+    """The time of a machine and the STOPS at a piece of it, together."""
+    times = {one: time for one, time, _ in hall[0]}
+    return times[name] + sum(ticks for (one, at, _), ticks in stops.items() if (one, at) == (name, piece))
+
+
+def least_begins(hall, stops, many, floors=None, cards=()):
+    """The RUN LEFT ALONE, or held back by floors and cards, by raising begins till nothing has to wait more."""
+    begins = {name: [(floors or {}).get((name, piece), 0) for piece in range(many)] for name, _, _ in hall[0]}
+    times = {name: [time_at(hall, stops, name, piece) for piece in range(many)] for name in begins}
+    changed = True
+    while changed:
+        changed = False
+        for piece in range(many):
+            floors = [(name, begins[name][piece - 1] + times[name][piece - 1]) for name in begins if piece]
+            for start, end, room, first in hall[1]:
+                if piece >= first:
+                    floors.append((end, begins[start][piece - first] + times[start][piece - first]))
+                if piece >= room - first:
+                    floors.append((start, begins[end][piece + first - room]))
+            for ahead, behind, between in cards:
+                if piece >= between:
+                    floors.append((ahead, begins[behind][piece - between] + times[behind][piece - between]))
+            for name, floor in floors:
+                if begins[name][piece] < floor:
+                    begins[name][piece] = floor
+                    changed = True
+    return {name: tuple(row) for name, row in begins.items()}
+
+
+def some_floors(dice, hall, pieces):
+    """FLOORS of some pieces, in any order."""
+    names = [name for name, _, _ in hall[0]]
+    return {(dice.choice(names), dice.randrange(pieces)): dice.randint(0, 60) for _ in range(dice.randint(0, 6))}
 
 
 def same_after(case, call, *given):

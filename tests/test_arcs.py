@@ -4,21 +4,12 @@ import unittest
 
 from fillerfed.arcs import arcs_from, arcs_of, arcs_to, does_end, end_of, growth_of, least_arcs, least_growth, start_of
 from fillerfed.forms import is_arc
-from samples import DEAD, HALL, LONE, same_after, some_halls
+from samples import DEAD, HALL, LONE, leads, same_after, some_halls
 
 # Several belts between the same two, and rooms by which ways of few arcs grow more than others.
 TWINS = ((("a", 1, ()), ("b", 1, ()), ("c", 1, ())),
          (("a", "b", 3, 1), ("a", "b", 2, 1), ("b", "a", 2, 1), ("b", "c", 5, 2), ("c", "a", 3, 3), ("a", "c", 9, 4)), "a")
 HALLS = [HALL, LONE, DEAD, TWINS] + some_halls(14, 64)
-
-
-def leads(hall):
-    """The rows (arc, start, end, growth) of a HALL, in the order of arcs_of."""
-    rows = [(("next", name), name, name, 1) for name, _, _ in hall[0]]
-    for index, (start, end, room, first) in enumerate(hall[1]):
-        rows.append((("down", index), start, end, first))
-        rows.append((("up", index), end, start, room - first))
-    return rows
 
 
 def simple_ways(hall, here, other, been=()):

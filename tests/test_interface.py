@@ -21,6 +21,16 @@ arcs arcs_of(hall) arcs_from(hall,name) arcs_to(hall,name) least_arcs(hall,one,o
 arcs growth_of(hall,arc) least_growth(hall,one,other) does_end(arc)
 rings dead_ring(hall) is_live(hall) is_dead_ring(hall,thing) is_rise(hall,thing) rise(hall)
 ticks first_moment(hall,stops,many) next_moment(hall,stops,many,moment) tick_begins(hall,stops,many)
+runs begins(hall,stops,many) ends(hall,stops,many) waits(hall,stops,many) tight_arcs(hall,stops,run,name,piece)
+runs first_wait(hall,stops,many)
+purses taken_of(stops,name,index) holdings(hall,stops,many) held(purse,taken,piece) is_let(purse,taken) are_let(hall,stops)
+purses first_over(purse,taken) first_not_let(hall,stops) all_let(purse,many)
+windows most_taken(purse,first,last) greedy_sum(purse,pieces) least_size(back,taken) over_window(purse,taken)
+windows greedy(purse,pieces) least_back(size,taken)
+walks is_way(hall,thing) is_walk(hall,thing) end_of_way(hall,way) indexes(hall,way) ended(hall,way) way_to_filler(hall,name)
+walks index_of(hall,way) all_walks(hall,many)
+walkstops stops_of(hall,way) ticks_of(hall,way) gain_of(hall,way) ticks_with(hall,way,stops) pays(hall,walk)
+walkstops told_wait(hall,walk)
 """
 
 

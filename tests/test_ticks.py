@@ -6,7 +6,7 @@ import unittest
 from fillerfed.errors import Dead, TooMany
 from fillerfed.rings import dead_ring, is_live
 from fillerfed.ticks import first_moment, next_moment, tick_begins
-from samples import DEAD, HALL, LONE, check_new, raised, same_after, some_halls, some_stops
+from samples import DEAD, HALL, LONE, check_new, least_begins, live_halls, raised, same_after, some_halls
 
 LINE = ((("fill", 4, ()), ("sort", 2, ((2, 0),)), ("wash", 2, ((3, 1),))), (("wash", "sort", 1, 1), ("sort", "fill", 1, 1)), "fill")
 LAST = 20000
@@ -56,34 +56,6 @@ class Floor:
 
     def moment(self):
         return (self.tick, tuple(self.lying), tuple((self.begun[name], self.until[name]) for name in self.begun))
-
-
-def least_begins(hall, stops, many):
-    """The RUN LEFT ALONE, by raising begins till nothing has to wait more."""
-    begins = {name: [0] * many for name, _, _ in hall[0]}
-    times = {name: [time + sum(ticks for (one, at, _), ticks in stops.items() if (one, at) == (name, piece)) for piece in range(many)]
-             for name, time, _ in hall[0]}
-    changed = True
-    while changed:
-        changed = False
-        for piece in range(many):
-            floors = [(name, begins[name][piece - 1] + times[name][piece - 1]) for name in begins if piece]
-            for start, end, room, first in hall[1]:
-                if piece >= first:
-                    floors.append((end, begins[start][piece - first] + times[start][piece - first]))
-                if piece >= room - first:
-                    floors.append((start, begins[end][piece + first - room]))
-            for name, floor in floors:
-                if begins[name][piece] < floor:
-                    begins[name][piece] = floor
-                    changed = True
-    return {name: tuple(row) for name, row in begins.items()}
-
-
-def live_halls(seed, rounds):
-    """LIVE ones of some HALLS, with STOPS of each."""
-    dice = random.Random(seed)
-    return [(hall, some_stops(dice, hall)) for hall in some_halls(seed, rounds) if is_live(hall)]
 
 
 class MomentsTest(unittest.TestCase):
