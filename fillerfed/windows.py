@@ -69,11 +69,8 @@ def greedy_sum(purse, pieces):
 
 def least_size(back, taken):
     """The least size from 1 on with which a PURSE with this back lets a TAKEN."""
-    sizes = [1]
-    for first, last, ticks in window_sums(taken):
-        # A size up to back is there anew at each piece; a greater one once, and back at each later piece.
-        sizes.append(max(-(-ticks // (last - first + 1)), ticks - (last - first) * back))
-    return max(sizes)
+    # A size below back is there anew at each piece: it is enough if it is for each WINDOW of one piece.
+    return max([1] + [ticks - (last - first) * back for first, last, ticks in window_sums(taken)])
 
 
 def least_back(size, taken):

@@ -238,6 +238,79 @@ def least_begins(hall, stops, many, floors=None, cards=()):
     return {name: tuple(row) for name, row in begins.items()}
 
 
+def own_behind(hall, state, arc):
+    """The tuple (state, ticks) behind an ARC, piece by piece for what it grows."""
+    name, contents = state
+    _, end, growth = [row for row in leads(hall) if row[0] == arc][0][1:]
+    ticks = 0
+    later = []
+    for (one, time, purses), row in zip(hall[0], contents):
+        row = list(row)
+        if one == name and arc[0] != "up":
+            ticks = time + sum(row)
+            row = [0 for _ in row]
+        for _ in range(growth):
+            row = [min(size, content + back) for (size, back), content in zip(purses, row)]
+        later.append(tuple(row))
+    return (end, tuple(later)), ticks
+
+
+def own_full(hall, name):
+    """The STATE of a machine with all PURSES full."""
+    return (name, tuple(tuple(size for size, _ in purses) for _, _, purses in hall[0]))
+
+
+def own_web(hall):
+    """For each STATE to which one comes the rows (arc, state, ticks) of what is behind it."""
+    rows = leads(hall)
+    web = {}
+    pile = [own_full(hall, name) for name, _, _ in hall[0]]
+    while pile:
+        state = pile.pop()
+        if state not in web:
+            web[state] = [(arc,) + own_behind(hall, state, arc) for arc, start, _, _ in rows if start == state[0]]
+            pile.extend(later for _, later, _ in web[state] if later[0] != hall[2])
+    return web
+
+
+def own_gains(hall):
+    """The greatest GAINS so far with which one comes to each STATE, by as many passes as there are; None if a WALK PAYS."""
+    web = own_web(hall)
+    pace = {name: time for name, time, _ in hall[0]}[hall[2]]
+    growths = {row[0]: row[3] for row in leads(hall)}
+    found = {own_full(hall, name): 0 for name, _, _ in hall[0]}
+    for _ in range(len(web) + 1):
+        changed = False
+        for state in list(found):
+            for arc, later, ticks in web[state]:
+                gain = found[state] + ticks - pace * growths[arc]
+                if later[0] == hall[2]:
+                    if gain > 0:
+                        return None
+                elif later not in found or found[later] < gain:
+                    found[later] = gain
+                    changed = True
+        if not changed:
+            return {state: found[state] for state in sorted(found)}
+    return None
+
+
+def with_pace(hall, pace):
+    """The HALL whose FILLER has this time."""
+    machines, belts, filler = hall
+    return (tuple((name, pace if name == filler else time, purses) for name, time, purses in machines), belts, filler)
+
+
+def least_pace(hall):
+    """The least PACE with which a LIVE HALL HOLDS, None if there is none: where the FILLER waits for its first piece."""
+    if own_gains(with_pace(hall, 10 ** 6)) is None:
+        return None
+    pace = 1
+    while own_gains(with_pace(hall, pace)) is None:
+        pace += 1
+    return pace
+
+
 def some_floors(dice, hall, pieces):
     """FLOORS of some pieces, in any order."""
     names = [name for name, _, _ in hall[0]]

@@ -31,6 +31,13 @@ walks is_way(hall,thing) is_walk(hall,thing) end_of_way(hall,way) indexes(hall,w
 walks index_of(hall,way) all_walks(hall,many)
 walkstops stops_of(hall,way) ticks_of(hall,way) gain_of(hall,way) ticks_with(hall,way,stops) pays(hall,walk)
 walkstops told_wait(hall,walk)
+states is_state(hall,thing) full_state(hall,name) behind(hall,state,arc) states_of(hall)
+tables is_table(hall,thing) gains(hall)
+verdicts paying_walk(hall) holds(hall) is_verdict(hall,thing) verdict(hall)
+controls is_run(hall,stops,thing) is_earlier(one,other) keeps(hall,stops,run,cards) waits_in(hall,run) greatest_run(one,other)
+controls least_run(one,other) held_back(hall,stops,floors,many) carded(hall,stops,cards,many) floors_of(run)
+controls latest(hall,stops,piece)
+trees is_tree(hall) is_line(hall) belt_home(hall,name) way_home(hall,name) back_home(hall,name) there_and_back(hall,name)
 """
 
 

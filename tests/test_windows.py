@@ -58,6 +58,14 @@ class OverWindowTest(unittest.TestCase):
         self.assertEqual([over_window((1, 5), {400: 3}), over_window((3, 2), {10 ** 30: 4}), over_window((3, 0), {10 ** 30: 4})],
                          [(399, 400), (10 ** 30, 10 ** 30), (0, 10 ** 30)])
 
+    def test_far_too_much(self):
+        # 9 ticks at the piece 6 are 4 too many for (5, 2) there, and 2 for a WINDOW of two pieces.
+        self.assertEqual([over_window((5, 2), {6: 9}), over_window((5, 2), {6: 10}), over_window((5, 3), {9: 21, 12: 4})], [(5, 6), (4, 6), (4, 9)])
+        dice = random.Random(55)
+        for purse in ((5, 2), (7, 3), (4, 4), (3, 9), (6, 1)) * 20:
+            taken = {dice.randint(3, 20): dice.randint(1, 25) for _ in range(dice.randint(1, 4))}
+            self.assertEqual(over_window(purse, taken), own_over_window(purse, taken))
+
     def test_of_nothing(self):
         self.assertEqual([over_window((1, 0), {}), over_window((1, 0), {0: 1}), over_window((1, 0), {0: 2})], [None, None, (0, 0)])
 
