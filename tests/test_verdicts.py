@@ -117,14 +117,22 @@ class PayingWalkTest(unittest.TestCase):
             walk = paying_walk(hall)
             self.check_walk(hall, walk)
             self.assertIs(holds(with_pace(hall, 51)), room * 51 >= time + 100)
-        # By one tick a piece, 899 have to come together on the way home; what wash HOLDS at first is 99 of them.
-        hall = ((("fill", 50, ()), ("wash", 30, ((100, 21),))), (("wash", "fill", 20, 20),), "fill")
+        # On its belt 20 pieces of 50 ticks are made good; 130 of these are wash's at first, the others come one by one.
+        hall = slow_round(30, 20)
         walk = paying_walk(hall)
         self.check_walk(hall, walk)
         self.assertGreater(len(walk[1]), 800)
         self.assertGreaterEqual(waits(hall, stops_of(hall, walk), index_of(hall, walk) + 1)[-1], gain_of(hall, walk))
         self.assertIs(is_verdict(hall, ("waits", walk)), True)
-        self.assertIs(is_verdict(hall, ("waits", ("wash", walk[1][400:]))), pays(hall, ("wash", walk[1][400:])))
+
+    def test_as_often_as_it_takes(self):
+        # Of each piece so many ticks are gained: one more than it takes is not gone along.
+        for each in (1, 2, 3, 7):
+            hall = ((("fill", 50, ()), ("wash", 30, ((40, 20 + each),))), (("wash", "fill", 20, 20),), "fill")
+            walk = paying_walk(hall)
+            self.check_walk(hall, walk)
+            self.assertIn(gain_of(hall, walk), range(1, each + 1))
+            self.assertIs(pays(hall, ("wash", walk[1][1:])), False)
 
     def test_a_round_through_several_machines(self):
         # Box by itself gains nothing, wash loses; of each round through both, 2 pieces long, one tick is gained.
