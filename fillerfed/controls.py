@@ -6,7 +6,7 @@ FLOORS are a dict from tuples (name, piece) to ticks ahead of which these pieces
 
 from fillerfed.forms import is_count
 from fillerfed.halls import machine_of, names_of
-from fillerfed.rings import rise
+from fillerfed.rings import rise_order
 from fillerfed.runs import asked, begins, earliest_run, filler_waits, leads_of
 from fillerfed.ticks import piece_time
 
@@ -82,9 +82,8 @@ def carded(hall, stops, cards, many):
 
 def sums_ahead(hall, stops, piece):
     """The greatest sums of times and STOPS that are ENDED along ARCS to a piece of the FILLER, by (name, piece)."""
-    heights = rise(hall)
     # From a piece one comes to such with a greater index, or with the same one and a greater height.
-    order = [name for _, name in sorted([(-heights[name], name) for name in heights])]
+    order = rise_order(hall)[::-1]
     leads = leads_of(hall)
     found = {(hall[2], piece): 0}
     for at in reversed(range(piece + 1)):

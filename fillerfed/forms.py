@@ -8,6 +8,13 @@ def is_tuple_of(thing, many):
     return type(thing) is tuple and len(thing) == many
 
 
+def is_just(thing, told):
+    """Whether a value is just this one, of the same kinds; it has integers, strings and tuples of such."""
+    if type(told) is tuple:
+        return is_tuple_of(thing, len(told)) and all([is_just(part, other) for part, other in zip(thing, told)])
+    return type(thing) is type(told) and thing == told
+
+
 def is_integer(thing):
     """Whether a value is an integer; True and False are none."""
     return type(thing) is int

@@ -36,7 +36,16 @@ def dead_ring(hall):
 
 def is_live(hall):
     """Whether a HALL is LIVE."""
-    return dead_ring(hall) is None
+    pairs = [(start, end) for _, start, end in still_steps(hall)]
+    names = list(names_of(hall))
+    many = len(names) + 1
+    # No machine of a DEAD RING is ever left out here, as another one of the ring leads to it. Where there is none, one
+    # to which none leads is left out each time: this takes no search, also in a HALL of many machines.
+    while len(names) < many:
+        many = len(names)
+        led_to = {end: True for start, end in pairs if start in names}
+        names = [name for name in names if name in led_to]
+    return many == 0
 
 
 def is_dead_ring(hall, thing):
@@ -61,6 +70,12 @@ def rise(hall):
         for start, end in pairs:
             heights[end] = max(heights[end], heights[start] + 1)
     return heights
+
+
+def rise_order(hall):
+    """The list of the names of all machines, those with a lesser integer in rise first."""
+    heights = rise(hall)
+    return [name for _, name in sorted([(heights[name], name) for name in heights])]
 
 
 def is_rise(hall, thing):

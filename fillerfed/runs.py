@@ -6,7 +6,7 @@ growth on, is begun not before piece j - growth of start, if ends is True not be
 
 from fillerfed.arcs import arcs_of, arcs_to, does_end, end_of, growth_of, start_of
 from fillerfed.halls import machine_of, names_of, pace_of
-from fillerfed.rings import rise
+from fillerfed.rings import rise_order
 from fillerfed.ticks import piece_time
 
 
@@ -39,9 +39,8 @@ def earliest_run(hall, stops, leads, floors, many):
 
     The LEADS are those of the HALL, and others with a growth from 1 on.
     """
-    heights = rise(hall)
     # What a piece waits for has a lesser index, or the same one and a lesser height: it is always found already.
-    order = [name for _, name in sorted([(heights[name], name) for name in heights])]
+    order = rise_order(hall)
     leads_to = {name: [lead for lead in leads if lead[1] == name] for name in order}
     run = {name: [] for name in names_of(hall)}
     for piece in range(many):

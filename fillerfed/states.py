@@ -50,8 +50,22 @@ def behind(hall, state, arc):
     return ((end_of(hall, arc), tuple(later)), ticks)
 
 
-def web_of(hall):
-    """For each STATE of states_of the list of tuples (arc, state, ticks) of what is behind the ARCS from it."""
+def behind_all(hall, state, arcs):
+    """The tuple (state, ticks, growth): the STATE behind ARCS in a row, what they take, and their growth."""
+    ticks = 0
+    growth = 0
+    for arc in arcs:
+        state, more = behind(hall, state, arc)
+        ticks += more
+        growth += growth_of(hall, arc)
+    return (state, ticks, growth)
+
+
+def web_of(hall, last, most):
+    """For each STATE to which one comes from full ones the list of tuples (arc, state, ticks) of what is behind it.
+
+    One does not come to the machine `last` by ARCS; to all machines, if it is None. There are at most so many STATES.
+    """
     ring = dead_ring(hall)
     if ring is not None:
         raise Dead(ring)
@@ -63,14 +77,19 @@ def web_of(hall):
         for arc in steps[state[0]]:
             later, ticks = behind(hall, state, arc)
             web[state].append((arc, later, ticks))
-            if later[0] != hall[2] and later not in web:
+            if later[0] != last and later not in web:
                 web[later] = []
                 pile.append(later)
-        if len(web) > MOST_STATES:
-            raise TooMany(MOST_STATES)
+        if len(web) > most:
+            raise TooMany(most)
     return web
+
+
+def walk_web(hall):
+    """The web_of the STATES to which one comes on WALKS."""
+    return web_of(hall, hall[2], MOST_STATES)
 
 
 def states_of(hall):
     """The ascending tuple of all STATES to which one comes from full ones by ARCS that do not lead to the FILLER."""
-    return tuple(sorted(web_of(hall)))
+    return tuple(sorted(walk_web(hall)))

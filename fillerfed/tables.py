@@ -1,56 +1,79 @@
 """Tables, by which no walk pays, and the search, which ends with a table or with a walk that pays.
 
-The search numbers the STATES of states_of. ROWS have for each of them the list of tuples (arc, number, gain), one for
-each ARC from it: the number of the STATE behind the ARC, None at the FILLER, and what is gained by the ARC.
+A search numbers the STATES of a web, ascending. STEPS have for each of them the list of tuples (arc, number, growth,
+ticks), one for each ARC from it: the number of the STATE behind the ARC, None where the web ends, and what the ARC
+grows and takes. ROWS have tuples (arc, number, gain) instead: what is gained by the ARC.
 """
 
 from fillerfed.arcs import arcs_from, growth_of, least_arcs, least_growth, start_of
 from fillerfed.forms import is_integer
 from fillerfed.halls import names_of, pace_of
-from fillerfed.states import behind, full_state, is_state, web_of
+from fillerfed.states import behind, behind_all, full_state, is_state, walk_web
 
 
-def gain_behind(hall, state, arc):
-    """The tuple (state, gain): the STATE behind an ARC from this one, and what is gained by the ARC."""
-    later, ticks = behind(hall, state, arc)
-    return (later, ticks - pace_of(hall) * growth_of(hall, arc))
+def is_kept_behind(hall, sums, state, arcs, fraction, last):
+    """Whether the STATES behind these ARCS have at least what leads there from this STATE.
 
-
-def is_kept_behind(hall, table, state, arcs):
-    """Whether a TABLE has what it has to have behind these ARCS from one of its STATES."""
+    Of each ARC this is what it takes more than its growth times the FRACTION, times its d. What leads to the machine
+    `last`, if it is not None, is asked to be at most 0 instead.
+    """
+    n, d = fraction
     for arc in arcs:
-        later, more = gain_behind(hall, state, arc)
-        gain = table[state] + more
-        most = 0 if later[0] == hall[2] else table.get(later)
-        if most is None or gain > most:
+        later, ticks = behind(hall, state, arc)
+        most = 0 if later[0] == last else sums.get(later)
+        if most is None or most < sums[state] + d * ticks - n * growth_of(hall, arc):
             return False
     return True
 
 
-def is_table(hall, thing):
-    """Whether a value is a TABLE of a HALL."""
+def are_kept(hall, sums, fraction, last):
+    """Whether it is so behind each ARC from each key of a dict from STATES to integers."""
+    arcs = {name: arcs_from(hall, name) for name in names_of(hall)}
+    return all([is_kept_behind(hall, sums, state, arcs[state[0]], fraction, last) for state in sums])
+
+
+def are_state_sums(hall, thing):
+    """Whether a value is a dict from STATES of a HALL to integers in which each full_state is a key."""
     if type(thing) is not dict:
         return False
     if not all([is_state(hall, state) and is_integer(gain) for state, gain in thing.items()]):
         return False
-    if not all([thing.get(full_state(hall, name), -1) >= 0 for name in names_of(hall)]):
+    return all([full_state(hall, name) in thing for name in names_of(hall)])
+
+
+def is_table(hall, thing):
+    """Whether a value is a TABLE of a HALL."""
+    if not are_state_sums(hall, thing) or not all([thing[full_state(hall, name)] >= 0 for name in names_of(hall)]):
         return False
-    arcs = {name: arcs_from(hall, name) for name in names_of(hall)}
-    return all([is_kept_behind(hall, thing, state, arcs[state[0]]) for state in thing])
+    return are_kept(hall, thing, (pace_of(hall), 1), hall[2])
 
 
-def rows_of(hall, web, numbers):
-    """The ROWS of a HALL, of its web_of and the numbers of its STATES."""
-    pace = pace_of(hall)
+def steps_of(hall, web, last):
+    """The STEPS of a web that ends at the machine `last`, None if it ends nowhere."""
+    numbers = {state: number for number, state in enumerate(sorted(web))}
     growths = {arc: growth_of(hall, arc) for name in names_of(hall) for arc in arcs_from(hall, name)}
-    rows = []
+    steps = []
     for state in numbers:
         row = []
         for arc, later, ticks in web[state]:
-            number = None if later[0] == hall[2] else numbers[later]
-            row.append((arc, number, ticks - pace * growths[arc]))
-        rows.append(row)
-    return rows
+            number = None if later[0] == last else numbers[later]
+            row.append((arc, number, growths[arc], ticks))
+        steps.append(row)
+    return steps
+
+
+def rows_of(steps, fraction):
+    """The ROWS of STEPS by which is gained what an ARC takes more than its growth times a FRACTION, times its d."""
+    n, d = fraction
+    return [[(arc, to, d * ticks - n * growth) for arc, to, growth, ticks in row] for row in steps]
+
+
+def begun(hall, states):
+    """The tuple (found, came, latest) ahead of a search: 0 is gained at full STATES, from which it begins."""
+    fulls = {full_state(hall, name): True for name in names_of(hall)}
+    latest = [number for number, state in enumerate(states) if state in fulls]
+    found = [0 if state in fulls else None for state in states]
+    return (found, [None] * len(states), latest)
 
 
 def led_on(rows, found, came, latest):
@@ -101,11 +124,8 @@ def trail(came, at, begin):
 
 def gain_along(hall, state, arcs):
     """The tuple (state, gain) behind ARCS that lead on from a STATE."""
-    gain = 0
-    for arc in arcs:
-        state, more = gain_behind(hall, state, arc)
-        gain += more
-    return (state, gain)
+    later, ticks, growth = behind_all(hall, state, arcs)
+    return (later, ticks - pace_of(hall) * growth)
 
 
 def round_walk(hall, arcs):
@@ -126,15 +146,10 @@ def round_walk(hall, arcs):
 
 def searched(hall):
     """The tuple (table, walk): the TABLE with the least integers and None, or None and a WALK that PAYS."""
-    web = web_of(hall)
+    web = walk_web(hall)
     states = sorted(web)
-    numbers = {state: number for number, state in enumerate(states)}
-    rows = rows_of(hall, web, numbers)
-    latest = [numbers[full_state(hall, name)] for name in names_of(hall)]
-    found = [None] * len(states)
-    came = [None] * len(states)
-    for at in latest:
-        found[at] = 0
+    rows = rows_of(steps_of(hall, web, hall[2]), (pace_of(hall), 1))
+    found, came, latest = begun(hall, states)
     while latest:
         end = paying_end(rows, found, latest)
         if end is not None:
@@ -144,7 +159,7 @@ def searched(hall):
         at = ring_from(came, latest)
         if at is not None:
             return (None, round_walk(hall, trail(came, at, at)[1]))
-    return ({state: found[number] for state, number in numbers.items()}, None)
+    return (dict(zip(states, found)), None)
 
 
 def gains(hall):

@@ -15,6 +15,10 @@ HALL = ((CAP, FILL, WASH), (("wash", "fill", 1, 1), ("fill", "cap", 1, 0)), "fil
 LONE = ((FILL,), (), "fill")
 DEAD = ((CAP, FILL), (("fill", "cap", 2, 0), ("cap", "fill", 1, 0)), "fill")
 
+# More than 20,000 STATES: what cap and box HOLD grows piece by piece as long as one stays at wash.
+WIDE = ((("box", 1, ((99, 1),)), ("cap", 1, ((100, 1),)), ("fill", 9, ()), ("wash", 1, ())),
+        (("box", "cap", 1, 1), ("wash", "cap", 1, 1), ("cap", "fill", 1, 1)), "fill")
+
 # Wrong wherever a part of a MACHINE, BELT, HALL, ARC or of STOPS stands.
 NEVER_RIGHT = (None, True, False, -1, 1.0, "", "Cap", "a1", "a b", "cap\n", "\n", "a" * 13, "\u00e4", b"cap", [], {}, [1], {1: 2},
                (None,), ([],), 10 ** 40 * -1)
@@ -151,6 +155,34 @@ def let_stops(dice, hall, pieces=12):
     return {key: stops[key] for key in keys}
 
 
+def drawn_tree(dice, many, line=False):
+    """A TREE of so many machines, each with its belt to one that has been drawn ahead of it; to the last one in a LINE."""
+    names = dice.sample(["a", "b", "cap", "d", "fill", "g", "wash", "zz"], many)
+    belts = []
+    for at in range(1, many):
+        room = dice.randint(1, 4)
+        belts.append((names[at], names[at - 1] if line else dice.choice(names[:at]), room, room))
+    dice.shuffle(belts)
+    machines = [(name, dice.randint(1, 6), () if name == names[0] else some_purses(dice)) for name in sorted(names)]
+    return (tuple(machines), tuple(belts), names[0])
+
+
+def drawn_trees(seed):
+    """TREES of one to eight machines; every second one is a LINE."""
+    dice = random.Random(seed)
+    return [drawn_tree(dice, 1 + at % 8, at // 8 % 2 == 0) for at in range(80)]
+
+
+def own_belts_home(hall, name):
+    """The indexes of the belts that lead on from a machine to the FILLER."""
+    found = []
+    while name != hall[2]:
+        index = [at for at, belt in enumerate(hall[1]) if belt[0] == name][0]
+        found.append(index)
+        name = hall[1][index][1]
+    return found
+
+
 def own_contents(purse, taken, many):
     """The tuple of what a PURSE HOLDS at each of many pieces, by the words of the definition."""
     size, back = purse
@@ -260,8 +292,8 @@ def own_full(hall, name):
     return (name, tuple(tuple(size for size, _ in purses) for _, _, purses in hall[0]))
 
 
-def own_web(hall):
-    """For each STATE to which one comes the rows (arc, state, ticks) of what is behind it."""
+def own_web(hall, by_filler=False):
+    """For each STATE to which one comes the rows (arc, state, ticks) of what is behind it; one goes on by the FILLER, or not."""
     rows = leads(hall)
     web = {}
     pile = [own_full(hall, name) for name, _, _ in hall[0]]
@@ -269,7 +301,7 @@ def own_web(hall):
         state = pile.pop()
         if state not in web:
             web[state] = [(arc,) + own_behind(hall, state, arc) for arc, start, _, _ in rows if start == state[0]]
-            pile.extend(later for _, later, _ in web[state] if later[0] != hall[2])
+            pile.extend(later for _, later, _ in web[state] if by_filler or later[0] != hall[2])
     return web
 
 
@@ -311,10 +343,51 @@ def least_pace(hall):
     return pace
 
 
+def own_pace(hall):
+    """The time of the FILLER."""
+    return {name: time for name, time, _ in hall[0]}[hall[2]]
+
+
+def paced_halls(seed, rounds, more):
+    """LIVE HALLS of up to four machines; the first ones also with the least PACE with which they HOLD, and with one less."""
+    found = [hall for hall, _ in live_halls(seed, rounds, 4)]
+    for hall in found[:more]:
+        least = least_pace(hall)
+        if least:
+            found.append(with_pace(hall, least))
+            found.append(with_pace(hall, max(1, least - 1)))
+    return found
+
+
 def some_floors(dice, hall, pieces):
     """FLOORS of some pieces, in any order."""
     names = [name for name, _, _ in hall[0]]
     return {(dice.choice(names), dice.randrange(pieces)): dice.randint(0, 60) for _ in range(dice.randint(0, 6))}
+
+
+# Methods of Kept, some of them twice as they are drawn more often.
+CHANGES = ("put_belt", "put_belt", "put_filler", "put_machine", "put_machine", "put_purses", "put_room", "put_stop", "put_stop", "put_stop", "put_time",
+           "take_belt", "take_machine")
+
+
+def drawn_change(dice, hall):
+    """A CHANGE (word, arguments), most often one that can be done."""
+    names = [name for name, _, _ in hall[0]]
+    name = dice.choice(names) if dice.random() < 0.85 else some_name(dice, names)
+    word = dice.choice(CHANGES)
+    room = dice.randint(1, 3)
+    first = dice.choice((0, room, dice.randint(0, room)))
+    index = dice.randint(-1, len(hall[1]))
+    purses = some_purses(dice)
+    if word == "put_machine":
+        new = some_name(dice, names) if dice.random() < 0.8 and len(names) < 7 else name
+        return word, ((new, dice.randint(1, 6), purses), some_belt(dice,
+                                                                   *((new,
+                                                                      dice.choice(names)) if new not in names and dice.random() < 0.85 else ("ab", "cd")), 3))
+    if word == "put_belt":
+        return word, (some_belt(dice, name, dice.choice([one for one in names + ["zz", "zzz"] if one != name]), 3),)
+    return word, {"take_machine": (name,), "put_time": (name, dice.randint(1, 6)), "put_purses": (name, purses), "put_filler": (name,), "take_belt": (index,),
+                  "put_room": (index, room, first), "put_stop": (name, dice.randrange(6), dice.choice((0, 0, 1, 2)), dice.choice((0, 1, 2, 5)))}[word]
 
 
 def same_after(case, call, *given):

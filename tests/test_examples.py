@@ -3,12 +3,13 @@
 import doctest
 from pathlib import Path
 
-EXAMPLES = sorted(path.name for path in (Path(__file__).parent / "examples").glob("*.txt"))
+FOLDER = Path(__file__).parent / "examples"
+EXAMPLES = sorted(path.name for path in FOLDER.glob("*.txt"))
 
 
 def load_tests(loader, tests, pattern):
     """One test for each file of examples."""
     for name in EXAMPLES:
-        tests.addTest(doctest.DocFileSuite("examples/" + name))
+        tests.addTest(doctest.DocFileSuite("examples/" + name, optionflags=doctest.DONT_ACCEPT_TRUE_FOR_1))
     tests.addTest(doctest.DocFileSuite("../README.md"))
     return tests

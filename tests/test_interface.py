@@ -38,7 +38,17 @@ controls is_run(hall,stops,thing) is_earlier(one,other) keeps(hall,stops,run,car
 controls least_run(one,other) held_back(hall,stops,floors,many) carded(hall,stops,cards,many) floors_of(run)
 controls latest(hall,stops,piece)
 trees is_tree(hall) is_line(hall) belt_home(hall,name) way_home(hall,name) back_home(hall,name) there_and_back(hall,name)
+shares slacks(hall) straight_gains(hall) has_shares(hall) is_just_so(hall) share_gain(hall,state) spoiled(hall)
+rooms is_rooms(hall,thing) is_evidence(hall,thing) is_least_rooms(hall,most,thing) with_rooms(hall,rooms) evidence(hall)
+rooms least_rooms(hall,most) cheapest_rooms(hall,most,prices)
+spares changes_of(hall) spares(hall) changed(hall,change,times) is_tight(hall) is_spare_paper(hall,thing)
+spares is_often_paper(hall,change,most,thing) spare_paper(hall) often(hall,change,most) often_paper(hall,change,most)
+paces way_states(hall) state_of_way(hall,way) is_round(hall,thing) are_bounds(hall,fraction,thing) is_pace_paper(hall,thing)
+paces mean_of(hall,lap) worst_pace(hall) pace_paper(hall) latest_tick(hall,paper,piece) pace_way(hall,paper,times)
+losses losses(hall,many) loss_way(hall,piece) worst_loss(hall) loss_paper(hall) is_loss_paper(hall,thing)
 """
+# What has another name than in the document, which calls it `round`: L15 keeps that for Python's own, and all of them are
+# passed by position.
 
 
 def listed():
@@ -51,21 +61,30 @@ def listed():
 
 
 def arguments_of(node):
-    """The names of the arguments of a function, or of a class's constructor, without self."""
+    """The names of the arguments of a function, or of a class's constructor, without self; None if there is none, or more kinds."""
     if isinstance(node, ast.ClassDef):
         makers = [part for part in node.body if isinstance(part, ast.FunctionDef) and part.name == "__init__"]
-        return [argument.arg for argument in makers[0].args.args[1:]] if makers else None
-    return [argument.arg for argument in node.args.args]
+        return arguments_of(makers[0])[1:] if makers else None
+    told = node.args
+    return None if told.vararg or told.kwarg or told.kwonlyargs or told.defaults else [argument.arg for argument in told.args]
+
+
+def found_in(file, name):
+    """The definitions of a name in the file, `Class.method` being one in the body of the class itself."""
+    nodes = ast.parse((PACKAGE / (file + ".py")).read_text()).body
+    for part in name.split("."):
+        found = [node for node in nodes if isinstance(node, (ast.FunctionDef, ast.ClassDef)) and node.name == part]
+        nodes = found[0].body if found else []
+    return found
 
 
 class InterfaceTest(unittest.TestCase):
     def test_each_name_is_defined_in_its_file(self):
         for file, name, arguments in listed():
             with self.subTest(file=file, name=name):
-                nodes = ast.parse((PACKAGE / (file + ".py")).read_text()).body
-                found = [node for node in nodes if isinstance(node, (ast.FunctionDef, ast.ClassDef)) and node.name == name]
+                found = found_in(file, name)
                 self.assertEqual(len(found), 1)
-                self.assertEqual(arguments_of(found[0]), arguments)
+                self.assertEqual(arguments_of(found[0]), ["self"] + arguments if "." in name else arguments)
 
     def test_the_first_file_is_empty(self):
         self.assertEqual((PACKAGE / "__init__.py").read_bytes(), b"")

@@ -22,6 +22,25 @@ BARRED_WORDS = re.compile(r"\b(typing|enum|Enum|dataclass|namedtuple|register|mr
 PLAIN_NODES = (ast.FunctionDef, ast.ClassDef, ast.ImportFrom, ast.Assign)
 
 
+ITERATED = {"zip", "enumerate", "range", "reversed", "items", "keys", "values"}
+ITERATING = {"list", "tuple", "dict", "sorted", "sum", "any", "all", "min", "max", "combinations"}
+
+
+def called(node):
+    """The name of the function or method that a call is of."""
+    return node.func.id if isinstance(node.func, ast.Name) else node.func.attr
+
+
+def with_parents(tree):
+    """Tuples of each node and the one in which it stands."""
+    return [(node, parent) for parent in ast.walk(tree) for node in ast.iter_child_nodes(parent)]
+
+
+def methods_in(tree):
+    """The methods of the classes in a tree."""
+    return [part for node in ast.walk(tree) if isinstance(node, ast.ClassDef) for part in node.body if isinstance(part, ast.FunctionDef)]
+
+
 class LanguageTest(unittest.TestCase):
     def each(self):
         """Each file's name, lines and tree."""
@@ -80,8 +99,9 @@ class LanguageTest(unittest.TestCase):
                     self.assertNotIn(node.arg if isinstance(node, ast.arg) else node.name, taken)
 
     def test_builtins_methods_and_words(self):
+        own = {method.name for _, _, tree in self.each() for method in methods_in(tree)}
         for _, _, tree in self.each():
-            attributes = {node.attr for node in ast.walk(tree) if isinstance(node, ast.Attribute) and isinstance(node.ctx, ast.Store)}
+            attributes = {node.attr for node in ast.walk(tree) if isinstance(node, ast.Attribute) and isinstance(node.ctx, ast.Store)} | own
             for node in ast.walk(tree):
                 if isinstance(node, ast.Name) and isinstance(node.ctx, ast.Load) and node.id in dir(builtins):
                     self.assertIn(node.id, BUILTINS)
@@ -101,7 +121,44 @@ class LanguageTest(unittest.TestCase):
                 if isinstance(node, ast.Constant) and isinstance(node.value, str):
                     self.assertNotIn(chr(37), node.value)
                 if isinstance(node, ast.Compare) and any(isinstance(sign, (ast.Is, ast.IsNot)) for sign in node.ops):
-                    self.assertRegex(ast.unparse(node), r"is (not )?(None|True|False|int|str|bool|list|tuple|dict)$")
+                    self.assertRegex(ast.unparse(node), r"is (not )?(None|True|False|int|str|bool|list|tuple|dict)$|^type\(\w+\) is type\(\w+\)$")
+
+    def test_what_is_iterated_at_once(self):
+        for name, _, tree in self.each():
+            for node, parent in with_parents(tree):
+                if isinstance(node, ast.Call) and called(node) in ITERATED:
+                    right = isinstance(parent, (ast.For, ast.comprehension)) and parent.iter is node
+                    right = right or isinstance(parent, ast.Call) and called(parent) in ITERATING | ITERATED and parent.args[0] is node
+                    # A range may be asked for its members; the second argument of zip is iterated at once, too.
+                    right = right or called(node) == "range" and isinstance(parent, ast.Compare) or isinstance(parent, ast.Call) and called(parent) == "zip"
+                    self.assertTrue(right, (name, ast.unparse(parent)))
+
+    def test_sets_are_not_kept_and_not_iterated(self):
+        for name, _, tree in self.each():
+            for node, parent in with_parents(tree):
+                if isinstance(node, (ast.Set, ast.SetComp)) or isinstance(node, ast.Call) and called(node) == "set":
+                    right = isinstance(parent, ast.Call) and called(parent) in ("sorted", "len") or isinstance(parent, ast.Compare)
+                    self.assertTrue(right, (name, ast.unparse(parent)))
+
+    def test_errors_that_are_raised_and_caught(self):
+        own = {node.name for node in ast.walk(ast.parse((PACKAGE / "errors.py").read_text())) if isinstance(node, ast.ClassDef)}
+        for name, _, tree in self.each():
+            for node in ast.walk(tree):
+                if isinstance(node, ast.ExceptHandler):
+                    self.assertIn(node.type.id, own, name)
+                if isinstance(node, ast.Raise):
+                    self.assertIn(called(node.exc), own - {"HallError"}, name)
+                    self.assertIn(node.cause and ast.unparse(node.cause), (None, "None"), name)
+
+    def test_no_name_is_a_method_and_an_attribute(self):
+        for _, _, tree in self.each():
+            for node in ast.walk(tree):
+                if isinstance(node, ast.ClassDef):
+                    stored = {part.attr for part in ast.walk(node) if isinstance(part, ast.Attribute) and isinstance(part.ctx, ast.Store)}
+                    self.assertFalse(stored & {method.name for method in methods_in(node)})
+                    self.assertFalse(node.decorator_list)
+                if isinstance(node, ast.FunctionDef):
+                    self.assertFalse(node.decorator_list or node.args.kwonlyargs or node.args.kwarg)
 
 
 if __name__ == "__main__":

@@ -7,30 +7,11 @@ from fillerfed.forms import is_hall
 from fillerfed.rings import is_live
 from fillerfed.trees import back_home, belt_home, is_line, is_tree, there_and_back, way_home
 from fillerfed.walks import ended, index_of, is_walk
-from samples import DEAD, HALL, LONE, same_after, some_halls, some_purses
+from samples import DEAD, HALL, LONE, drawn_trees, own_belts_home, same_after, some_halls
 
 CAP, FILL, WASH = ("cap", 3, ((4, 1),)), ("fill", 5, ()), ("wash", 2, ((2, 0), (1, 3)))
 LINE = ((CAP, FILL, WASH), (("wash", "cap", 1, 1), ("cap", "fill", 2, 2)), "fill")
 FORK = ((CAP, FILL, WASH), (("wash", "fill", 3, 3), ("cap", "fill", 2, 2)), "fill")
-
-
-def drawn_tree(dice, many, line=False):
-    """A TREE of so many machines, each with its belt to one that has been drawn ahead of it; to the last one in a LINE."""
-    names = dice.sample(["a", "b", "cap", "d", "fill", "g", "wash", "zz"], many)
-    belts = []
-    for at in range(1, many):
-        room = dice.randint(1, 4)
-        belts.append((names[at], names[at - 1] if line else dice.choice(names[:at]), room, room))
-    dice.shuffle(belts)
-    machines = [(name, dice.randint(1, 6), () if name == names[0] else some_purses(dice)) for name in sorted(names)]
-    return (tuple(machines), tuple(belts), names[0])
-
-
-def drawn_trees(seed):
-    """TREES of one to eight machines; every second one is a LINE."""
-    dice = random.Random(seed)
-    return [drawn_tree(dice, 1 + at % 8, at // 8 % 2 == 0) for at in range(80)]
-
 
 TREES = drawn_trees(130)
 
@@ -43,16 +24,6 @@ def own_is_tree(hall):
         if room != first:
             return False
     return all(count == (name != hall[2]) for name, count in counts.items())
-
-
-def own_belts_home(hall, name):
-    """The indexes of the belts that lead on from a machine to the FILLER."""
-    found = []
-    while name != hall[2]:
-        index = [at for at, belt in enumerate(hall[1]) if belt[0] == name][0]
-        found.append(index)
-        name = hall[1][index][1]
-    return found
 
 
 class KindsTest(unittest.TestCase):
