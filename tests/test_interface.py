@@ -1,6 +1,7 @@
 """What the document's interface lists stands in the file under which it is listed, with these arguments."""
 
 import ast
+import re
 import unittest
 from pathlib import Path
 
@@ -46,6 +47,15 @@ spares is_often_paper(hall,change,most,thing) spare_paper(hall) often(hall,chang
 paces way_states(hall) state_of_way(hall,way) is_round(hall,thing) are_bounds(hall,fraction,thing) is_pace_paper(hall,thing)
 paces mean_of(hall,lap) worst_pace(hall) pace_paper(hall) latest_tick(hall,paper,piece) pace_way(hall,paper,times)
 losses losses(hall,many) loss_way(hall,piece) worst_loss(hall) loss_paper(hall) is_loss_paper(hall,thing)
+blame chain(hall,stops,piece) needed_stops(hall,stops,piece) is_chain(hall,stops,piece,thing)
+booking booked(hall,stops,chain) lost_at(hall,stops,many) saved(hall,stops,piece,lot) frees(hall,stops,piece,lot)
+booking least_lots(hall,stops,piece)
+books book_of(hall) is_book(thing) word_of(hall)
+kept Kept(hall) Kept.put_machine(machine,belt) Kept.take_machine(name) Kept.put_time(name,time) Kept.put_purses(name,purses)
+kept Kept.put_filler(name) Kept.put_belt(belt) Kept.take_belt(index) Kept.put_room(index,room,first)
+kept Kept.put_stop(name,piece,purse,ticks) Kept.hall() Kept.stops() Kept.verdict() Kept.waits(many) Kept.lost(piece)
+kept Kept.undo() Kept.turned() Kept.twin() Kept.__eq__(other)
+desk Desk(hall) Desk.execute(line) Desk.kept() Desk.twin() Desk.__eq__(other)
 """
 # What has another name than in the document, which calls it `round`: L15 keeps that for Python's own, and all of them are
 # passed by position.
@@ -85,6 +95,27 @@ class InterfaceTest(unittest.TestCase):
                 found = found_in(file, name)
                 self.assertEqual(len(found), 1)
                 self.assertEqual(arguments_of(found[0]), ["self"] + arguments if "." in name else arguments)
+
+    def test_it_is_what_the_document_lists(self):
+        # The row of mean_of is told with the document's own name of the argument.
+        document = PACKAGE.parent.parent / "shared" / "DOC.md"
+        if not document.exists():
+            self.skipTest("the document is not here")
+        text = document.read_text(encoding="utf-8").partition("# The interface")[2]
+        told = {}
+        for row in re.findall(r"^- fillerfed/([a-z]+)\.py (.*)$", text, re.M):
+            owner = ""
+            for mark in re.findall(r"(class )?`([A-Za-z_]+)(?:\(([^`]*)\))?`", row[1]):
+                if mark[1] == mark[1].lower() or mark[1] in ("Kept", "Desk") or row[0] == "errors":
+                    name = mark[1] if mark[0] or not owner else owner + mark[1]
+                    owner = name + "." if mark[0] and row[0] != "errors" else owner
+                    arguments = mark[2].replace(" ", "").replace("round", "lap")
+                    told.setdefault(row[0], {})[name] = None if name == "HallError" else [part for part in arguments.split(",") if part]
+        listed_here = {}
+        for file, name, arguments in listed():
+            if not name.endswith("__eq__"):
+                listed_here.setdefault(file, {})[name] = arguments
+        self.assertEqual(listed_here, told)
 
     def test_the_first_file_is_empty(self):
         self.assertEqual((PACKAGE / "__init__.py").read_bytes(), b"")

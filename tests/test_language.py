@@ -150,6 +150,20 @@ class LanguageTest(unittest.TestCase):
                     self.assertIn(called(node.exc), own - {"HallError"}, name)
                     self.assertIn(node.cause and ast.unparse(node.cause), (None, "None"), name)
 
+    def test_classes_that_compare(self):
+        # In this form, and in a package without `.sort()`, it bars nothing else that is used here.
+        part = r"( and \(?self\.{0} == other\.{0}\)?)"
+        compared = 0
+        for _, _, tree in self.each():
+            for node in ast.walk(tree):
+                self.assertFalse(isinstance(node, ast.Attribute) and node.attr == "sort")
+                if isinstance(node, ast.ClassDef):
+                    for method in [part for part in node.body if isinstance(part, ast.FunctionDef) and part.name == "__eq__"]:
+                        parts = "".join(part.format(word) for word in re.findall(r"self\.(\w+)", ast.unparse(method)))
+                        self.assertRegex("\n".join(ast.unparse(row) for row in method.body), rf"^return isinstance\(other, {node.name}\){parts}$")
+                        compared += 1
+        self.assertEqual(compared, 2)
+
     def test_no_name_is_a_method_and_an_attribute(self):
         for _, _, tree in self.each():
             for node in ast.walk(tree):
